@@ -1,9 +1,6 @@
 package algebra
 
 import (
-	"strings"
-	"unicode/utf8"
-
 	"pentaglot/api"
 	"pentaglot/raw"
 )
@@ -17,7 +14,7 @@ type tree struct {
 // Pairs returns a transducer that relates exactly these pairs.
 func Pairs(list ...[2]string) (api.Transducer, api.Errno) {
 	for _, p := range list {
-		if !readable(p[0]) || !readable(p[1]) {
+		if !raw.Readable(p[0]) || !raw.Readable(p[1]) {
 			return api.Transducer{}, api.ErrArgument
 		}
 	}
@@ -72,9 +69,4 @@ func (t *tree) follow(step api.Arc) int {
 	step.To = end
 	t.Arcs = append(t.Arcs, step)
 	return end
-}
-
-// readable reports whether x is valid UTF-8 without the rune 0.
-func readable(x string) bool {
-	return utf8.ValidString(x) && strings.IndexByte(x, 0) < 0
 }

@@ -1,9 +1,11 @@
-// Package raw trims raw constructions: transducers of any size, whose limits are checked only after they are trimmed.
+// Package raw contains what the layers that construct transducers share. It trims raw constructions: transducers of any size, whose limits are checked only after they are trimmed.
 package raw
 
 import (
 	"cmp"
 	"slices"
+	"strings"
+	"unicode/utf8"
 
 	"pentaglot/api"
 )
@@ -86,4 +88,9 @@ func reach(next [][]int, from ...int) []bool {
 // compare is the order of arcs in a trimmed transducer.
 func compare(a, b api.Arc) int {
 	return cmp.Or(cmp.Compare(a.From, b.From), cmp.Compare(a.To, b.To), cmp.Compare(a.In, b.In), cmp.Compare(a.Out, b.Out))
+}
+
+// Readable reports whether x is a string that transducers read: valid UTF-8 without the rune 0, which is epsilon.
+func Readable(x string) bool {
+	return utf8.ValidString(x) && strings.IndexByte(x, 0) < 0
 }

@@ -62,3 +62,11 @@ func TestResult(t *testing.T) { // P4.2: 512 and 513 states, 4096 and 4097 arcs,
 		}
 	}
 }
+
+func TestReadable(t *testing.T) { // P3.2, P4.1, P5.2: valid UTF-8 without the rune 0
+	for s, want := range map[string]bool{"": true, "a": true, "é\U00010000\uFFFD \x01": true, "\x00": false, "a\x00b": false, "\xff": false, "a\xc3": false, "\xed\xa0\x80": false, "\xc0\x80": false} {
+		if Readable(s) != want {
+			t.Errorf("%q", s)
+		}
+	}
+}

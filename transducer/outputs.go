@@ -5,6 +5,7 @@ import (
 	"slices"
 
 	"pentaglot/api"
+	"pentaglot/raw"
 )
 
 // search looks for the outputs of one string. Its spots are states with the number of runes that are read, from which the end can be reached; they are numbered, because most of the time is spent with sets of them.
@@ -35,7 +36,7 @@ type branch struct {
 
 // Outputs returns all outputs of x of at most n runes, in shortlex order.
 func Outputs(t api.Transducer, x string, n int) ([]string, api.Errno) {
-	if !Valid(t) || !readable(x) || n < 0 || n > api.MaxText {
+	if !Valid(t) || !raw.Readable(x) || n < 0 || n > api.MaxText {
 		return nil, api.ErrArgument
 	}
 	s := newSearch(t, x, n)

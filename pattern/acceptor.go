@@ -4,6 +4,7 @@ import (
 	"slices"
 
 	"pentaglot/api"
+	"pentaglot/matching"
 )
 
 // Acceptor returns the deterministic acceptor of the strings that p matches, its states numbered in the order in which a breadth-first search by the letters finds them.
@@ -11,18 +12,18 @@ func Acceptor(a []api.Letter, p []api.Item) (api.Acceptor, api.Errno) {
 	if !Valid(a, p) {
 		return api.Acceptor{}, api.ErrArgument
 	}
-	m := newMachine(a, p)
-	sets, rows := explore(m.start(), len(a), m.next)
-	return build(sets, rows, m.final), api.OK
+	m := matching.NewMachine(a, p)
+	sets, rows := matching.Explore(m.Start(), len(a), m.Next)
+	return matching.Build(sets, rows, m.Final), api.OK
 }
 
 // Accepts runs an acceptor.
 func Accepts(a []api.Letter, x api.Acceptor, s string) bool {
-	at, ok := places(a)
+	at, ok := matching.Places(a)
 	if !ok || !isAcceptor(x) || len(x.Next[0]) != len(a) {
 		return false
 	}
-	word, ok := read(at, s)
+	word, ok := matching.Read(at, s)
 	if !ok {
 		return false
 	}
@@ -44,8 +45,8 @@ func Minimal(x api.Acceptor) api.Acceptor {
 		member[c] = s
 	}
 	next := func(c, letter int) int { return class[x.Next[member[c]][letter]] }
-	found, rows := explore(class[x.Start], len(x.Next[0]), next)
-	return build(found, rows, func(c int) bool { return x.Final[member[c]] })
+	found, rows := matching.Explore(class[x.Start], len(x.Next[0]), next)
+	return matching.Build(found, rows, func(c int) bool { return x.Final[member[c]] })
 }
 
 // Difference returns the first string, in the order of length and then of the letters, that exactly one of the patterns matches.
@@ -54,14 +55,14 @@ func Difference(a []api.Letter, p, q []api.Item) (string, bool) {
 		return "", false
 	}
 	type pair struct {
-		p set
-		q set
+		p matching.Set
+		q matching.Set
 	}
-	mp, mq := newMachine(a, p), newMachine(a, q)
-	next := func(s pair, letter int) pair { return pair{mp.next(s.p, letter), mq.next(s.q, letter)} }
-	found, rows := explore(pair{mp.start(), mq.start()}, len(a), next)
+	mp, mq := matching.NewMachine(a, p), matching.NewMachine(a, q)
+	next := func(s pair, letter int) pair { return pair{mp.Next(s.p, letter), mq.Next(s.q, letter)} }
+	found, rows := matching.Explore(pair{mp.Start(), mq.Start()}, len(a), next)
 	// The states are found in the order of the first strings that lead to them.
-	i := slices.IndexFunc(found, func(s pair) bool { return mp.final(s.p) != mq.final(s.q) })
+	i := slices.IndexFunc(found, func(s pair) bool { return mp.Final(s.p) != mq.Final(s.q) })
 	if i < 0 {
 		return "", false
 	}
@@ -71,7 +72,7 @@ func Difference(a []api.Letter, p, q []api.Item) (string, bool) {
 // isAcceptor reports whether x is valid.
 func isAcceptor(x api.Acceptor) bool {
 	n := len(x.Next)
-	if n < 1 || n > api.MaxStates || len(x.Final) != n || len(x.Next[0]) > maxLetters {
+	if n < 1 || n > api.MaxStates || len(x.Final) != n || len(x.Next[0]) > matching.MaxLetters {
 		return false
 	}
 	isState := func(s int) bool { return s >= 0 && s < n }
@@ -88,36 +89,7 @@ func all(list []int, test func(int) bool) bool {
 	return !slices.ContainsFunc(list, func(n int) bool { return !test(n) })
 }
 
-// explore returns the states that are reached from start, in the order of the numbering, and for each of them the numbers of its successors under the letters.
-func explore[S comparable](start S, letters int, next func(s S, letter int) S) ([]S, [][]int) {
-	number := map[S]int{start: 0}
-	queue := []S{start}
-	var rows [][]int
-	for i := 0; i < len(queue); i++ {
-		row := make([]int, letters)
-		for letter := range letters {
-			s := next(queue[i], letter)
-			if _, ok := number[s]; !ok {
-				number[s] = len(queue)
-				queue = append(queue, s)
-			}
-			row[letter] = number[s]
-		}
-		rows = append(rows, row)
-	}
-	return queue, rows
-}
-
-// build returns the acceptor with these states and successors.
-func build[S comparable](states []S, rows [][]int, final func(S) bool) api.Acceptor {
-	x := api.Acceptor{Next: rows}
-	for _, s := range states {
-		x.Final = append(x.Final, final(s))
-	}
-	return x
-}
-
-// first returns the first string that leads from state 0 to the state with the number end, where explore found the rows.
+// first returns the first string that leads from state 0 to the state with the number end, where matching.Explore found the rows.
 func first(a []api.Letter, rows [][]int, end int) string {
 	var out []rune
 	for end != 0 {
